@@ -1,0 +1,1 @@
+"""Oathfall: what lands have sworn, and what comes of it."""
