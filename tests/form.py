@@ -1,7 +1,7 @@
 """What breaks the rules of LANGUAGE.md in the package's files: a list of tuples (rule, file, line).
 
-Not every rule can be seen here in full: L11, L13, L15's lists that are only read, and what L19 asks
-of a try around Python's own calls are left to whoever reads the code."""
+Most rules are seen in part alone, L11 and L13 not at all: what is let by here is still to be read
+against the rules. It is stricter in places (no set is written out, no annotation stands)."""
 
 import ast
 import builtins
