@@ -146,10 +146,7 @@ class Some(Clause):
 
     def stands(self, view, roles, turned):
         for land in lands_of(self.lands):
-            # A copy, since the who of a some around this one still stands outside of it.
-            within = dict(roles)
-            within["who"] = land
-            if self.c.stands(view, within, turned):
+            if self.c.stands(view, with_who(roles, land), turned):
                 return True
         return False
 
@@ -159,6 +156,13 @@ class Some(Clause):
 
 def land_of(roles, x):
     return roles.get(x, x)
+
+
+# A copy, since the who of a some around still stands outside of this one.
+def with_who(roles, land):
+    within = dict(roles)
+    within["who"] = land
+    return within
 
 
 def clause_of(condition):

@@ -11,25 +11,26 @@ def is_deed(n, thing):
     return is_land(n, thing[1]) and is_land(n, thing[2]) and thing[1] != thing[2]
 
 
-# A peace wipes out what stands ahead of it for its two lands alone, whichever of them made it.
-def behind_peace(row, a, b):
-    behind = []
-    for deed in row:
-        if deed in (("peace", a, b), ("peace", b, a)):
-            behind = []
-        else:
-            behind.append(deed)
-    return behind
+# A peace wipes out what stands ahead of it for its two lands alone, whichever of them made it. So a
+# row is walked from its end, up to the last peace of the two.
+def is_peace(deed, a, b):
+    return deed[0] == "peace" and deed[1] in (a, b) and deed[2] in (a, b)
 
 
 def did(row, word, a, b):
-    return (word, a, b) in behind_peace(row, a, b)
+    for deed in reversed(row):
+        if is_peace(deed, a, b):
+            return False
+        if deed == (word, a, b):
+            return True
+    return False
 
 
 def began(row, a, b):
-    for deed in behind_peace(row, a, b):
-        if deed == ("strike", a, b):
-            return True
-        if deed == ("strike", b, a):
-            return False
-    return False
+    first = None
+    for deed in reversed(row):
+        if is_peace(deed, a, b):
+            break
+        if deed in (("strike", a, b), ("strike", b, a)):
+            first = deed
+    return first == ("strike", a, b)
