@@ -4,6 +4,8 @@ from oathfall.lands import is_land
 
 WORDS = ("strike", "pass", "warn", "call", "help", "refuse", "peace")
 
+MOST_DEEDS = 16
+
 
 def is_deed(n, thing):
     if len(thing) != 3 or thing[0] not in WORDS:

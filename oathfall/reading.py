@@ -61,7 +61,12 @@ def parted(sure, sure_or_open):
     return (sure, [duty for duty in sure_or_open if duty not in sure])
 
 
+# Each sure duty with each oath by which it is sure, as tuples (duty, oath's number).
+def grounds(world, row, broken, read):
+    view = View(row, read[0], read[0] + read[1], broken)
+    return [(duty, j) for duty, j, clause in claims(world, row) if clause.holds(view, duty[1], duty[2])]
+
+
 def sure_by(world, row, broken, duty):
     read = reading(world, row, broken)
-    view = View(row, read[0], read[0] + read[1], broken)
-    return [j for owed, j, clause in claims(world, row) if owed == duty and clause.holds(view, duty[1], duty[2])]
+    return [j for owed, j in grounds(world, row, broken, read) if owed == duty]

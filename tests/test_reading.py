@@ -8,8 +8,8 @@ from oathfall.oaths import duties, in_force, owed_by, world_of
 from oathfall.reading import made, reading, rounds, sure_by
 
 from samples import (
-    BACK, HELP, SHUN, SPARE, YES, all_duties, cases, drawn_row, holding, look, made_slowly, oath, owed, read_slowly,
-    turned,
+    BACK, HELP, SHUN, SPARE, YES, all_duties, cases, drawn_row, exchanged, holding, look, made_slowly, oath, owed,
+    read_slowly, turned, wiped,
 )
 
 
@@ -298,26 +298,6 @@ class SureBy(unittest.TestCase):
 BLANK = ("help", 0, 0, YES, 1, 0, None, 0)
 
 
-def exchanged(thing, lands):
-    """A condition, oath, deed or duty with land k as lands[k]."""
-    def land(x):
-        return lands[x] if isinstance(x, int) else x
-
-    def bits(number):
-        return sum(1 << lands[k] for k in range(len(lands)) if number & 1 << k)
-
-    match thing:
-        case ("among", x, number):
-            return ("among", land(x), bits(number))
-        case ("some", number, c):
-            return ("some", bits(number), exchanged(c, lands))
-        case ("broken", j):
-            return thing
-        case (duty, makers, wards, condition, span, first, end, knowers):
-            return (duty, bits(makers), bits(wards), exchanged(condition, lands), span, first, end, bits(knowers))
-    return tuple([exchanged(part, lands) if isinstance(part, tuple) else land(part) for part in thing])
-
-
 class TheWhole(unittest.TestCase):
     def reached(self, world, duty):
         """The duty and all that it looks at, in however many steps."""
@@ -393,15 +373,8 @@ class NothingIsShared(unittest.TestCase):
             first = self.ask(world, [], [], [HELP])
             again = self.ask(world, [], [], [HELP])
             self.assertEqual(first, again)
-            self.wipe(again)
+            wiped(again)
             self.assertEqual(self.ask(world, [], [], [HELP]), first)
-
-    def wipe(self, thing):
-        for part in thing:
-            if isinstance(part, (list, tuple)):
-                self.wipe(part)
-        if isinstance(thing, list):
-            thing.clear()
 
     def test_no_two_lists_told_are_one(self):
         for world in (CHAIN, EACH_OTHER, world_of(2, []), world_of(2, [oath()])):
