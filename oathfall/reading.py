@@ -61,6 +61,12 @@ def parted(sure, sure_or_open):
     return (sure, [duty for duty in sure_or_open if duty not in sure])
 
 
+def read_as(read, duty):
+    if duty in read[0]:
+        return "sure"
+    return "open" if duty in read[1] else "none"
+
+
 # Each sure duty with each oath by which it is sure, as tuples (duty, oath's number).
 def grounds(world, row, broken, read):
     view = View(row, read[0], read[0] + read[1], broken)
